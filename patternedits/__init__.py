@@ -1,0 +1,1 @@
+"""Finding and replacing by patterns in tracked text."""

@@ -1,0 +1,46 @@
+"""The pieces of which a document's row is made."""
+
+PLAIN_LOOK = (0, 0, 0, 0)
+
+
+# The pieces of a row stand in a ring, in which the first one follows the last end.
+# So a piece comes or goes at the same cost wherever it stands, however many are not shown,
+# and each one has a neighbour on both sides.
+class Piece:
+
+    def __init__(self, sign, own_look, insertions):
+        self.sign = sign
+        self.own_look = own_look
+        # Kept besides the pending looks, for these may be many and the look as shown is asked for often.
+        self.shown_look = own_look
+        self.insertions = insertions
+        self.deletions = []
+        self.pending_looks = []
+        self.preceding = self
+        self.following = self
+
+    def enter_row_before(self, piece):
+        before = piece.preceding
+        before.following = self
+        self.preceding = before
+        self.following = piece
+        piece.preceding = self
+
+    def leave_row(self):
+        before = self.preceding
+        behind = self.following
+        before.following = behind
+        behind.preceding = before
+
+    def paint_at_once(self, which, value):
+        self.pending_looks = [entry for entry in self.pending_looks if entry[1] != which]
+        self.own_look = look_with(self.own_look, which, value)
+        self.shown_look = look_with(self.shown_look, which, value)
+
+    def paint_pending(self, change, which, value):
+        self.pending_looks.append((change, which, value))
+        self.shown_look = look_with(self.shown_look, which, value)
+
+
+def look_with(look, which, value):
+    return look[:which] + (value,) + look[which + 1:]
