@@ -55,13 +55,13 @@ class Document:
         return self.enter_change(KIND_CUT, borne)
 
     def paint(self, begin, end, which, value):
-        change = self.coming_change()
+        entry = (self.coming_change(), which, value)
         borne = False
         for piece in self.shown[begin:end]:
             if self.is_changed_at_once(piece):
                 piece.paint_at_once(which, value)
             elif piece.shown_look[which] != value:
-                piece.paint_pending(change, which, value)
+                piece.paint_pending(entry)
                 borne = True
         return self.enter_change(KIND_PAINT, borne)
 

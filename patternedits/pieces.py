@@ -15,7 +15,8 @@ class Piece:
         self.shown_look = own_look
         self.insertions = insertions
         self.deletions = []
-        self.pending_looks = []
+        # By property, for those of one property go together, and they may be many.
+        self.pending_by_property = {}
         self.preceding = self
         self.following = self
 
@@ -33,13 +34,22 @@ class Piece:
         behind.preceding = before
 
     def paint_at_once(self, which, value):
-        self.pending_looks = [entry for entry in self.pending_looks if entry[1] != which]
+        if which in self.pending_by_property:
+            self.pending_by_property.pop(which)
         self.own_look = look_with(self.own_look, which, value)
         self.shown_look = look_with(self.shown_look, which, value)
 
-    def paint_pending(self, change, which, value):
-        self.pending_looks.append((change, which, value))
-        self.shown_look = look_with(self.shown_look, which, value)
+    def paint_pending(self, entry):
+        which = entry[1]
+        self.pending_by_property.setdefault(which, []).append(entry)
+        self.shown_look = look_with(self.shown_look, which, entry[2])
+
+    # A command adds one entry to a piece at most, so the order of the changes is that in which entries were added.
+    def pending_looks(self):
+        entries = []
+        for entries_of_one in self.pending_by_property.values():
+            entries.extend(entries_of_one)
+        return sorted(entries)
 
 
 def look_with(look, which, value):

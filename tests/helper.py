@@ -95,7 +95,7 @@ def pieces(editor):
 def row_after(*calls):
     """The pieces that the calls leave, each as its sign, own look, insertions, deletions and pending looks."""
     return [(piece.sign, tuple(piece.own_look), list(piece.insertions), list(piece.deletions),
-             [tuple(entry) for entry in piece.pending_looks])
+             piece.pending_looks())
             for piece in pieces(editor_after(*calls))]
 
 
