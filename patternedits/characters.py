@@ -19,10 +19,14 @@ LESS_THAN = 60
 GREATER_THAN = 62
 QUESTION_MARK = 63
 AT_SIGN = 64
+GREAT_A = 65
+GREAT_Z = 90
 LEFT_SQUARE = 91
 BACKSLASH = 92
 RIGHT_SQUARE = 93
+SMALL_A = 97
 SMALL_N = 110
+SMALL_Z = 122
 LEFT_CURLY = 123
 RIGHT_CURLY = 125
 TILDE = 126
@@ -38,6 +42,26 @@ def is_sign(number):
 
 def is_digit(number):
     return DIGIT_ZERO <= number <= DIGIT_NINE
+
+
+def is_great_letter(number):
+    return GREAT_A <= number <= GREAT_Z
+
+
+def is_small_letter(number):
+    return SMALL_A <= number <= SMALL_Z
+
+
+def is_word_sign(number):
+    return is_digit(number) or is_great_letter(number) or is_small_letter(number)
+
+
+def other_case(number):
+    if is_great_letter(number):
+        return number + SMALL_A - GREAT_A
+    if is_small_letter(number):
+        return number - SMALL_A + GREAT_A
+    return number
 
 
 def are_characters(numbers):

@@ -10,10 +10,12 @@ KIND_PAINT = 3
 
 class Change:
 
-    def __init__(self, author, time, kind):
+    # How many pieces of the row bear it is kept, for the row may become far longer than what is shown of it.
+    def __init__(self, author, time, kind, bearer_count):
         self.author = author
         self.time = time
         self.kind = kind
+        self.bearer_count = bearer_count
 
 
 # put, cut and paint take for granted that their places are within the text:
@@ -31,49 +33,65 @@ class Document:
 
     def put(self, place, signs):
         insertions = [self.coming_change()] if self.tracking else []
+        behind = self.shown[place]
         look_of_text = self.look_for_text(place)
-        look_of_ends = self.look_for_ends(place)
-        new = []
-        for sign in signs:
+        # The walk to a paragraph's end may be long, so it is only made for signs that need it.
+        look_of_ends = self.look_for_ends(place) if PARAGRAPH_END in signs else PLAIN_LOOK
+        for count, sign in enumerate(signs):
             look = look_of_ends if sign == PARAGRAPH_END else look_of_text
             piece = Piece(sign, look, list(insertions))
-            piece.enter_row_before(self.shown[place])
-            new.append(piece)
-        self.shown = self.shown[:place] + new + self.shown[place:]
-        return self.enter_change(KIND_PUT, self.tracking)
+            piece.enter_row_before(behind)
+            self.shown.insert(place + count, piece)
+        return self.enter_change(KIND_PUT, len(signs) if self.tracking else 0)
 
     def cut(self, begin, end):
         change = self.coming_change()
-        borne = False
-        for piece in self.shown[begin:end]:
+        bearer_count = 0
+        pieces = self.shown[begin:end]
+        for piece in pieces:
+            self.shown.pop(begin)
             if self.is_changed_at_once(piece):
                 piece.leave_row()
+                self.take_bearer_from(piece.borne_changes())
             else:
                 piece.deletions = [change]
-                borne = True
-        self.shown = self.shown[:begin] + self.shown[end:]
-        return self.enter_change(KIND_CUT, borne)
+                bearer_count += 1
+        return self.enter_change(KIND_CUT, bearer_count)
 
     def paint(self, begin, end, which, value):
         entry = (self.coming_change(), which, value)
-        borne = False
+        bearer_count = 0
         for piece in self.shown[begin:end]:
             if self.is_changed_at_once(piece):
-                piece.paint_at_once(which, value)
+                self.take_bearer_from(piece.paint_at_once(which, value))
             elif piece.shown_look[which] != value:
                 piece.paint_pending(entry)
-                borne = True
-        return self.enter_change(KIND_PAINT, borne)
+                bearer_count += 1
+        return self.enter_change(KIND_PAINT, bearer_count)
+
+    def row_pieces(self):
+        found = [self.last_end.following]
+        while found[-1] != self.last_end:
+            found.append(found[-1].following)
+        return found
+
+    def signs_between(self, begin, end):
+        return [piece.sign for piece in self.shown[begin:end]]
 
     def coming_change(self):
         return len(self.changes) + 1
 
-    # Only pieces that the command itself dealt with can bear its change, so the command knows whether any does.
-    def enter_change(self, kind, borne):
-        if not borne:
+    # Only pieces that the command itself dealt with can bear its change, so the command knows how many do.
+    def enter_change(self, kind, bearer_count):
+        if bearer_count == 0:
             return 0
-        self.changes.append(Change(self.author, self.time, kind))
+        self.changes.append(Change(self.author, self.time, kind, bearer_count))
         return len(self.changes)
+
+    def take_bearer_from(self, numbers):
+        for number in numbers:
+            change = self.changes[number - 1]
+            change.bearer_count -= 1
 
     def is_changed_at_once(self, piece):
         return not self.tracking or self.is_own(piece)

@@ -33,16 +33,23 @@ class Piece:
         before.following = behind
         behind.preceding = before
 
+    # Gives back the changes that the piece bears no longer.
     def paint_at_once(self, which, value):
+        gone = []
         if which in self.pending_by_property:
-            self.pending_by_property.pop(which)
+            gone = [entry[0] for entry in self.pending_by_property.pop(which)]
         self.own_look = look_with(self.own_look, which, value)
         self.shown_look = look_with(self.shown_look, which, value)
+        return gone
 
     def paint_pending(self, entry):
         which = entry[1]
         self.pending_by_property.setdefault(which, []).append(entry)
         self.shown_look = look_with(self.shown_look, which, entry[2])
+
+    # Each command gives a piece its change once at most, so no change is here twice.
+    def borne_changes(self):
+        return self.insertions + self.deletions + [entry[0] for entry in self.pending_looks()]
 
     # A command adds one entry to a piece at most, so the order of the changes is that in which entries were added.
     def pending_looks(self):

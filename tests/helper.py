@@ -54,6 +54,42 @@ def options(fold, k, v):
     return [8, fold, k, v]
 
 
+def find(p):
+    return [9, p]
+
+
+def match(p):
+    return [10, p]
+
+
+def matches(p, q):
+    return [11, p, q]
+
+
+def replace(p):
+    return [12, p]
+
+
+def replaceall(p, q):
+    return [13, p, q]
+
+
+def paintall(p, q, k, v):
+    return [14, p, q, k, v]
+
+
+def text(w):
+    return [15, w]
+
+
+def row():
+    return [16]
+
+
+def change(c):
+    return [17, c]
+
+
 def joined(calls):
     return [number for call in calls for number in call]
 
@@ -72,6 +108,57 @@ def run(*calls):
 
 def last(*calls):
     return run(*calls)[-1]
+
+
+def pairs(answer):
+    """The beginnings and ends that matches answers, as pairs."""
+    found = list(zip(answer[1::2], answer[2::2]))
+    assert answer == [len(found)] + joined(found)
+    return found
+
+
+def found_in(signs, written, *more):
+    """All matches of a pattern in a text, after what other calls are to come before."""
+    signs = codes(signs)
+    return pairs(last(*([put(0, signs)] if signs else []), pattern(written), *more, matches(0, len(signs))))
+
+
+def shown_after(*calls):
+    """The text that the calls leave, the last end left out."""
+    answer = last(*calls, text(1))
+    return "".join(chr(sign) for sign in answer[1::5])[:-1]
+
+
+def before_all_after(*calls):
+    """The text without all insertions, the last end left out."""
+    answer = last(*calls, text(2))
+    return "".join(chr(sign) for sign in answer[1::5])[:-1]
+
+
+def told_row_after(*calls):
+    """The row as the call row tells it, in the form of row_after."""
+    answer = last(*calls, row())
+    found = []
+    at = 1
+    while at < len(answer):
+        sign, look = answer[at], tuple(answer[at + 1:at + 5])
+        at += 5
+        lists = []
+        for width in (1, 1, 3):
+            begin, end = at + 1, at + 1 + width * answer[at]
+            lists.append(answer[begin:end] if width == 1
+                         else [tuple(answer[entry:entry + 3]) for entry in range(begin, end, 3)])
+            at = end
+        found.append((sign, look, *lists))
+    assert answer[0] == len(found)
+    return found
+
+
+def told_changes_after(*calls):
+    """All changes that the calls leave, each as the call change tells it."""
+    calls = list(calls)
+    count = len(changes_after(*calls))
+    return [tuple(last(*calls, change(number))) for number in range(1, count + 1)]
 
 
 def editor_after(*calls):
