@@ -29,7 +29,7 @@ class LongPatternsTest(unittest.TestCase):
 
     def test_groups_in_long_patterns(self):
         answer = last(SAME, pattern("(a@)" * 9 + "a@" * 13), replacement("b"), match(0))
-        self.assertEqual(answer, [2000, 9] + [number for at in range(9) for number in (99 * at, 99 * at + 99)] + [1, 98])
+        self.assertEqual(answer, [2000, 9] + joined([(99 * at, 99 * at + 99) for at in range(9)]) + [1, 98])
         calls = (put(0, "a" * 60), pattern("(a@)" * 9 + "a@~" * 13), match(0))
         self.assertEqual(last(*calls), [60, 9, 0, 39] + joined([(at, at + 1) for at in range(39, 47)]) + [0])
 
@@ -81,7 +81,8 @@ class LongTextsTest(unittest.TestCase):
         self.assertEqual(last(*calls, text(1)), [2001] + [10, 5, 0, 0, 0] * 2001)
 
     def test_painting_each_sign(self):
-        calls = (SAME, track(1), pattern("a"), paintall(0, 2000, 1, 4), paintall(0, 2000, 1, 4), paintall(0, 1999, 1, 5))
+        calls = (SAME, track(1), pattern("a"), paintall(0, 2000, 1, 4), paintall(0, 2000, 1, 4),
+                 paintall(0, 1999, 1, 5))
         self.assertEqual(run(*calls)[-3:], [[2000, 2000], [2000, 0], [1999, 1999]])
         self.assertEqual(run(*calls, change(2001), change(3999), change(4000))[-3:], [[1, 0, 3, 1], [1, 0, 3, 1], [-4]])
 

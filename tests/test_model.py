@@ -312,7 +312,8 @@ class Model:
         answer = [len(self.row)]
         for piece in self.row:
             answer += [piece["sign"]] + piece["own"] + [len(piece["insertions"])] + piece["insertions"]
-            answer += [len(piece["deletions"])] + piece["deletions"] + [len(piece["pending"])] + joined(piece["pending"])
+            answer += [len(piece["deletions"])] + piece["deletions"]
+            answer += [len(piece["pending"])] + joined(piece["pending"])
         return answer
 
     def call_change(self, c):

@@ -138,7 +138,8 @@ class TrackedReplaceallTest(unittest.TestCase):
         self.assertEqual(told_changes_after(*calls), [(3, 8, 1, 2), (3, 8, 2, 1)] * 2)
 
     def test_only_what_bears_a_change_enters_one(self):
-        calls = (put(0, "b b "), track(1), put(1, "a"), put(4, "aa"), pattern("ba@"), replacement("b"), replaceall(0, 7))
+        calls = (put(0, "b b "), track(1), put(1, "a"), put(4, "aa"), pattern("ba@"), replacement("b"),
+                 replaceall(0, 7))
         self.assertEqual(last(*calls), [2, 0, 3])
         self.assertEqual(signs_and_lists(*calls), [("b", [], []), (" ", [], []), ("b", [], []), (" ", [], []),
                                                    ("\n", [], [])])

@@ -25,7 +25,8 @@ class TextTest(unittest.TestCase):
         self.assertEqual(last(*calls, text(1)), [4, 120, 0, 0, 9, 0, 98, 0, 0, 8, 0, 99, 0, 0, 0, 0, 10, 0, 0, 0, 0])
 
     def test_2_has_what_has_no_insertions_in_its_own_look(self):
-        calls = (put(0, "abc"), paint(1, 2, 0, 3), track(1), cut(0, 1), put(0, "x"), paint(1, 3, 2, 8), paint(1, 2, 0, 1))
+        calls = (put(0, "abc"), paint(1, 2, 0, 3), track(1), cut(0, 1), put(0, "x"), paint(1, 3, 2, 8),
+                 paint(1, 2, 0, 1))
         self.assertEqual(last(*calls, text(2)), [4, 97, 0, 0, 0, 0, 98, 3, 0, 0, 0, 99, 0, 0, 0, 0, 10, 0, 0, 0, 0])
 
     def test_untracked_changes_are_in_both(self):
@@ -57,7 +58,8 @@ class RowTest(unittest.TestCase):
                                         10, 0, 0, 0, 0, 0, 0, 0])
 
     def test_pending_looks_in_the_order_in_which_they_were_added(self):
-        calls = (put(0, "a"), track(1), paint(0, 1, 3, 1), paint(0, 1, 0, 2), paint(0, 1, 3, 9), paint(0, 1, 0, 0), row())
+        calls = (put(0, "a"), track(1), paint(0, 1, 3, 1), paint(0, 1, 0, 2), paint(0, 1, 3, 9), paint(0, 1, 0, 0),
+                 row())
         self.assertEqual(last(*calls), [2,
                                         97, 0, 0, 0, 0, 0, 0, 4, 1, 3, 1, 2, 0, 2, 3, 3, 9, 4, 0, 0,
                                         10, 0, 0, 0, 0, 0, 0, 0])
@@ -69,7 +71,8 @@ class RowTest(unittest.TestCase):
     def test_pieces_that_are_not_shown_are_told_in_their_places(self):
         calls = (put(0, "abc"), track(1), cut(0, 2), put(0, "x"), put(2, "y"))
         self.assertEqual([(chr(piece[0]), piece[2], piece[3]) for piece in told_row_after(*calls)],
-                         [("a", [], [1]), ("b", [], [1]), ("x", [2], []), ("c", [], []), ("y", [3], []), ("\n", [], [])])
+                         [("a", [], [1]), ("b", [], [1]), ("x", [2], []), ("c", [], []), ("y", [3], []),
+                          ("\n", [], [])])
 
     def test_row_as_the_document_keeps_it(self):
         calls = (put(0, "abcab"), track(1), pattern("b"), replacement("xx"), replace(1), author(2), replaceall(0, 6),
